@@ -54,7 +54,7 @@ func TestPrintedAgain(t *testing.T) {
 
 // P4.3: the same of all kinds of tokens, beside one another.
 func TestEveryKindAgain(t *testing.T) {
-	l := []string{"SELECT", "not", "a", "_", "x", "1", "0", "9223372036854775807", "0.0001", "12.5", "''", "'it''s ß -- \n'", "x''", "x'0aff'", "(", ")", ",", ".", ";", "*", "+", "-", "/", "=", "<", ">", "<=", ">=", "<>"}
+	l := []string{"SELECT", "not", "a", "_", "x", "a1", "_0", "x00", "select1", "1", "0", "9223372036854775807", "0.0001", "12.5", "''", "'it''s ß -- \n'", "x''", "x'0aff'", "(", ")", ",", ".", ";", "*", "+", "-", "/", "=", "<", ">", "<=", ">=", "<>"}
 	for _, a := range l {
 		for _, b := range l {
 			want, bad, _ := lex.Lex(a + " " + b)

@@ -62,10 +62,32 @@ func TestBlanks(t *testing.T) {
 	reads(t, "x '00'", name("x", 0), text("00", 2))
 }
 
-// P4.2: names are letters and _ alone, told in small letters; words in capitals.
+// P4.2: names are letters, _ and, behind the first one of these, digits; they are told in small letters.
 func TestNames(t *testing.T) {
 	reads(t, "abc ABC aBc _ __ _a a_ Z z", name("abc", 0), name("abc", 4), name("abc", 8), name("_", 12), name("__", 14), name("_a", 17), name("a_", 20), name("z", 23), name("z", 25))
-	reads(t, "a1 b_2.c", name("a", 0), integer(1, 1), name("b_", 3), integer(2, 5), symbol(".", 6), name("c", 7))
+	reads(t, "a1 b_2.c", name("a1", 0), name("b_2", 3), symbol(".", 6), name("c", 7))
+	for _, first := range "aAxXzZ_" {
+		for _, more := range []string{"0", "9", "1_", "2b3", "0123456789", "__7", "Q0", "007x"} {
+			s := string(first) + more
+			reads(t, s, name(strings.ToLower(s), 0))
+			reads(t, "1,"+s+"=2", integer(1, 0), symbol(",", 1), name(strings.ToLower(s), 2), symbol("=", 2+len(s)), integer(2, 3+len(s)))
+		}
+	}
+}
+
+// P4.2: a name ends where no letter, no _ and no digit stands; a digit ahead of a name begins a number.
+func TestNamesEnd(t *testing.T) {
+	reads(t, "a1.5", name("a1", 0), symbol(".", 2), integer(5, 3))
+	reads(t, "a1.b2", name("a1", 0), symbol(".", 2), name("b2", 3))
+	reads(t, "a1-1 a 1", name("a1", 0), symbol("-", 2), integer(1, 3), name("a", 5), integer(1, 7))
+	reads(t, "a1--1\n2", name("a1", 0), integer(2, 6))
+	reads(t, "a1\n1", name("a1", 0), integer(1, 3))
+	reads(t, "a1'1'", name("a1", 0), text("1", 2))
+	refuses(t, "a1.5b", api.ErrDigit, 3)
+	refuses(t, "a1 1a1", api.ErrDigit, 3)
+	for _, s := range []string{"\xff", "ß", "!", "１", "²", "\u212a"} {
+		refuses(t, "a1"+s, api.ErrRune, 2)
+	}
 }
 
 // P4.2: every word, however it is written; what only begins like one is a name.
@@ -74,7 +96,8 @@ func TestWords(t *testing.T) {
 		small := strings.ToLower(w)
 		reads(t, w+" "+small+" "+w[:1]+small[1:], word(w, 0), word(w, len(w)+1), word(w, 2*len(w)+2))
 		reads(t, w+"_ _"+w+" Q"+w+w, name(small+"_", 0), name("_"+small, len(w)+2), name("q"+small+small, 2*len(w)+4))
-		reads(t, w+"1", word(w, 0), integer(1, len(w)))
+		reads(t, w+"1 "+small+"0a _1"+w, name(small+"1", 0), name(small+"0a", len(w)+2), name("_1"+small, 2*len(w)+5))
+		reads(t, w+" 1", word(w, 0), integer(1, len(w)+1))
 	}
 	reads(t, "not_null ISNULL sum count coalesce", name("not_null", 0), name("isnull", 9), name("sum", 16), name("count", 20), name("coalesce", 26))
 }
@@ -85,6 +108,13 @@ func TestLongNames(t *testing.T) {
 	reads(t, " "+long+".", name(strings.ToLower(long), 1), symbol(".", 21))
 	refuses(t, " "+long+"a", api.ErrLong, 1)
 	refuses(t, "a, "+long+"_ 1a", api.ErrLong, 3)
+	digits := "A" + strings.Repeat("7", api.MaxName-1)
+	reads(t, " "+digits+"=", name(strings.ToLower(digits), 1), symbol("=", 21))
+	refuses(t, " "+digits+"7", api.ErrLong, 1)
+	refuses(t, " "+digits+"_", api.ErrLong, 1)
+	refuses(t, " "+long+"1", api.ErrLong, 1)
+	refuses(t, "a1, "+long+"1 1a", api.ErrLong, 4)
+	refuses(t, "_"+strings.Repeat("0", api.MaxSql-1), api.ErrLong, 0)
 	refuses(t, strings.Repeat("x", api.MaxSql), api.ErrLong, 0)
 	refuses(t, strings.Repeat("x", 21)+"\xff", api.ErrLong, 0)
 	reads(t, strings.Repeat("x", 20)+"'a'", name(strings.Repeat("x", 20), 0), text("a", 20))

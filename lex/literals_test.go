@@ -136,6 +136,8 @@ func TestBytes(t *testing.T) {
 	reads(t, "ax'00'", name("ax", 0), text("00", 2))
 	reads(t, "xx'00'", name("xx", 0), text("00", 2))
 	reads(t, "_x'00' x", name("_x", 0), text("00", 2), name("x", 7))
+	reads(t, "x1'00' X0'00'", name("x1", 0), text("00", 2), name("x0", 7), text("00", 9))
+	reads(t, "a1x'00' a1 x'00'", name("a1x", 0), text("00", 3), name("a1", 8), octets("\x00", 11))
 	reads(t, "x", name("x", 0))
 	reads(t, "X.x", name("x", 0), symbol(".", 1), name("x", 2))
 }

@@ -26,7 +26,7 @@ func first(s string, known map[string]struct{}) (token api.Token, size int, bad 
 
 // name reads a name, or a word of the language.
 func name(s string, known map[string]struct{}) (token api.Token, size int, bad api.Errno) {
-	size = run(s, letter)
+	size = run(s, inName)
 	if size > api.MaxName {
 		return token, 0, api.ErrLong
 	}
